@@ -1,0 +1,1 @@
+"""Wishlots: things dealt by shares and lots."""
