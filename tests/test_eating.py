@@ -1,8 +1,7 @@
 import copy
 import unittest
-from fractions import Fraction
 
-from tests.samples import many_wishes
+from tests.samples import many_wishes, worth
 from wishlots.eating import eaten, stops
 from wishlots.tables import prefixes, table_of
 
@@ -11,10 +10,6 @@ ONE = (1, 1)
 HALF = (1, 2)
 THIRD = (1, 3)
 FIFTH = (1, 5)
-
-
-def worth(share):
-    return Fraction(share[0], share[1])
 
 
 class ByHand(unittest.TestCase):

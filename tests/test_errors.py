@@ -1,8 +1,11 @@
 import unittest
 
 from wishlots import errors
+from wishlots.book import Book
 from wishlots.fractions import fraction
+from wishlots.lots import picked
 from wishlots.tables import table_of, wishes_of
+from wishlots.turns import deal_by
 
 NAMES = ("NoFraction", "NoWishes", "NoTable", "NoPick", "NoOrder", "NoRoll", "NoPerson", "Unready", "NoWay")
 
@@ -42,3 +45,24 @@ class Refusals(unittest.TestCase):
         self.refused("NoTable", table_of, [])
         self.refused("NoTable", table_of, [[(0, 1)]])
         self.refused("NoTable", table_of, [[(1, 1), (0, 1)], [(1, 1), (0, 1)]])
+        self.refused("NoPick", picked, [((1, 1), (0,))], (1, 1))
+        self.refused("NoPick", picked, [((1, 1), (0,))], (-1, 2))
+        self.refused("NoOrder", deal_by, [(0, 1), (0, 1)], [0, 0])
+        self.refused("NoOrder", deal_by, [(0, 1), (0, 1)], (0,))
+
+    def test_those_of_the_book(self):
+        self.refused("NoRoll", Book, [], [])
+        self.refused("NoRoll", Book, ["ada"], ["a lamp"])
+        book = Book(["ada"], ["lamp"])
+        self.refused("NoPerson", book.wish, "ben", "lamp")
+        self.refused("NoPerson", book.wish, "ben", "vase")
+        self.refused("NoWishes", book.wish, "ada", "vase")
+        self.refused("NoPerson", book.shares, "ben", "never")
+        self.refused("Unready", book.shares, "ada", "never")
+        self.refused("Unready", book.deal, "never", (1, 1))
+        book.wish("ada", "lamp")
+        self.refused("NoPerson", book.shares, "ben", "never")
+        self.refused("NoWay", book.shares, "ada", "never")
+        self.refused("NoWay", book.deal, "never", (1, 1))
+        self.refused("NoPick", book.deal, "eaten", (1, 1))
+        self.refused("NoPick", book.deal, "turns", (-1, 1))

@@ -1,10 +1,10 @@
 import unittest
 from fractions import Fraction
 
+from tests.samples import FORTY, told
 from wishlots.errors import NoFraction
 from wishlots.fractions import before, fraction, is_fraction, minus, plus, times
 
-FORTY = 10 ** 40 - 1
 GREAT = (FORTY, -FORTY, 10 ** 39, 6 * (10 ** 39 + 7), 2 ** 130, -3 ** 80)
 NUMBERS = tuple(range(-13, 14)) + GREAT
 
@@ -13,10 +13,6 @@ def worths():
     found = {Fraction(top, bottom) for top in range(-5, 6) for bottom in range(1, 7)}
     found |= {Fraction(top, bottom) for top in GREAT for bottom in GREAT}
     return sorted(found)
-
-
-def told(worth):
-    return (worth.numerator, worth.denominator)
 
 
 class Cases(unittest.TestCase):
@@ -59,7 +55,6 @@ class Making(Cases):
         for top, bottom in ((True, 2), (1, True), (False, 1), (1, False), ("1", 2), (1, None), (1.0, 2), (1, 2.0)):
             with self.subTest(top=top, bottom=bottom), self.assertRaises(NoFraction):
                 fraction(top, bottom)
-
 
     def test_what_is_a_fraction(self):
         for value in ((0, 1), (1, 1), (-1, 2), (7, 3), (FORTY, FORTY + 1)):

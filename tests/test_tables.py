@@ -3,7 +3,7 @@ import unittest
 from fractions import Fraction
 from itertools import permutations
 
-from tests.samples import many_wishes
+from tests.samples import FORTY, many_wishes
 from wishlots.errors import NoTable, NoWishes
 from wishlots.tables import prefixes, table_of, wishes_of
 
@@ -11,7 +11,6 @@ NIL = (0, 1)
 ONE = (1, 1)
 HALF = (1, 2)
 THIRD = (1, 3)
-FORTY = 10 ** 40 - 1
 
 
 def even_rows(count):

@@ -14,9 +14,9 @@ def has_people(rows):
     return is_listing(rows) and 1 <= len(rows) <= MOST_PEOPLE
 
 
-def is_wish(row, count):
+def holds_each_once(row, count):
     # The numbers are looked at first: sorting takes no mix of kinds, and True would pass for 1.
-    if not is_listing(row) or not all([is_whole(thing) for thing in row]):
+    if not is_listing(row) or not all([is_whole(number) for number in row]):
         return False
     return sorted(row) == list(range(count))
 
@@ -25,7 +25,7 @@ def wishes_of(rows):
     if not has_people(rows):
         raise NoWishes("wishes have from one to six rows")
     for row in rows:
-        if not is_wish(row, len(rows)):
+        if not holds_each_once(row, len(rows)):
             raise NoWishes("a row of wishes holds all things, each just once")
     return [tuple(row) for row in rows]
 
